@@ -5,31 +5,9 @@ import (
 	"testing"
 
 	"ctrie/api"
+	"ctrie/statetest"
 	"ctrie/view"
 )
-
-// around returns a list in the middle of a longer one, so that it has memory behind its last element, and the longer one.
-func around[T any](l []T, outside T) (part, whole []T) {
-	whole = append([]T{outside}, l...)
-	whole = slices.Clip(append(whole, outside, outside, outside))
-	return whole[1 : 1+len(l)], whole
-}
-
-// roomy returns an equal state whose lists all have memory around them, and all of these lists in another state.
-func roomy(s api.State) (part, whole api.State) {
-	var inside, longer []api.Node
-	for _, n := range copied(s).Nodes {
-		m := n
-		n.Branches, m.Branches = around(n.Branches, 77)
-		n.Pairs, m.Pairs = around(n.Pairs, api.Pair{Key: "outside", Value: 77})
-		inside, longer = append(inside, n), append(longer, m)
-	}
-	part.Gen = s.Gen
-	part.Cells, whole.Cells = around(s.Cells, 77)
-	part.Nodes, whole.Nodes = around(inside, api.Node{Kind: 77, Key: "outside"})
-	whole.Nodes = append(slices.Clone(whole.Nodes), longer...)
-	return part, whole
-}
 
 // overwrite changes the elements of a list, also those behind its last one.
 func overwrite[T any](l []T, with T) {
@@ -52,8 +30,8 @@ func varied() (api.State, api.Trie) {
 func TestArgumentsStay(t *testing.T) {
 	s, x := varied()
 	for _, c := range []api.Cell{x.Root, 1, 2, 0} {
-		part, whole := roomy(s)
-		before := copied(whole)
+		part, whole := statetest.Roomy(s)
+		before := statetest.Copied(whole)
 		x.Root = c
 		view.Root(part, x)
 		for r := range api.Ref(len(part.Nodes)) + 2 {
@@ -61,7 +39,7 @@ func TestArgumentsStay(t *testing.T) {
 		}
 		view.Contents(part, x)
 		view.Inner(part, x)
-		if !sameState(whole, before) || !sameState(part, s) {
+		if !statetest.Same(whole, before) || !statetest.Same(part, s) {
 			t.Fatalf("a call changes the state, or what is around it, to %+v, from %+v", whole, before)
 		}
 	}
@@ -78,8 +56,8 @@ func TestResultsAreNew(t *testing.T) {
 		s api.State
 		x api.Trie
 	}{{b.State(), alone}, {b.State(), first}, {several, x}} {
-		part, whole := roomy(c.s)
-		before := copied(whole)
+		part, whole := statetest.Roomy(c.s)
+		before := statetest.Copied(whole)
 		pairs, _ := view.Contents(part, c.x)
 		inner, _ := view.Inner(part, c.x)
 		samePairs, _ := view.Contents(part, c.x)
@@ -87,7 +65,7 @@ func TestResultsAreNew(t *testing.T) {
 		wantPairs, wantInner := slices.Clone(pairs), slices.Clone(inner)
 		overwrite(pairs, api.Pair{Key: "changed", Value: 1000})
 		overwrite(inner, 1000)
-		if !sameState(whole, before) {
+		if !statetest.Same(whole, before) {
 			t.Errorf("writing over a result changes the state to %+v, from %+v", whole, before)
 		}
 		for _, n := range part.Nodes {
@@ -110,6 +88,6 @@ func TestCallsDoNotDependOnOthers(t *testing.T) {
 	for _, bad := range improper() {
 		checkInvalid(t, bad, sampleTrie)
 		checkVisit(t, s, x, pairs, inner)
-		checkVisit(t, copied(s), x, pairs, inner)
+		checkVisit(t, statetest.Copied(s), x, pairs, inner)
 	}
 }

@@ -8,6 +8,7 @@ import (
 
 	"ctrie/api"
 	"ctrie/node"
+	"ctrie/statetest"
 	"ctrie/view"
 )
 
@@ -75,30 +76,16 @@ func set(s api.State, c api.Cell, r api.Ref) {
 	s.Cells[c-1] = r
 }
 
-// copied returns an equal state that shares no memory with s.
-func copied(s api.State) api.State {
-	var l []api.Node
-	for _, n := range s.Nodes {
-		l = append(l, node.Clone(n))
-	}
-	return api.State{Nodes: l, Cells: slices.Clone(s.Cells), Gen: s.Gen}
-}
-
-// sameState tells whether two states are equal.
-func sameState(a, b api.State) bool {
-	return a.Gen == b.Gen && slices.Equal(a.Cells, b.Cells) && slices.EqualFunc(a.Nodes, b.Nodes, node.Equal)
-}
-
 // checkRoot reports an error if Root does not return a root each time, or, if it is 0, does not return that there is none.
 func checkRoot(t *testing.T, s api.State, c api.Cell, want api.Ref) {
 	t.Helper()
-	before := copied(s)
+	before := statetest.Copied(s)
 	for _, readOnly := range []bool{false, true, false} {
 		if got, ok := view.Root(s, api.Trie{Root: c, ReadOnly: readOnly}); got != want || ok != (want != 0) {
 			t.Fatalf("Root of cell %d (%v) is %d, %v, want %d: %+v", c, readOnly, got, ok, want, s)
 		}
 	}
-	if !sameState(s, before) {
+	if !statetest.Same(s, before) {
 		t.Fatalf("Root changes the state to %+v, from %+v", s, before)
 	}
 }
@@ -107,13 +94,13 @@ func checkRoot(t *testing.T, s api.State, c api.Cell, want api.Ref) {
 // none.
 func checkMain(t *testing.T, s api.State, in, want api.Ref) {
 	t.Helper()
-	before := copied(s)
+	before := statetest.Copied(s)
 	for range 2 {
 		if got, ok := view.Main(s, in); got != want || ok != (want != 0) {
 			t.Fatalf("Main of node %d is %d, %v, want %d: %+v", in, got, ok, want, s)
 		}
 	}
-	if !sameState(s, before) {
+	if !statetest.Same(s, before) {
 		t.Fatalf("Main changes the state to %+v, from %+v", s, before)
 	}
 }

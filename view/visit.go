@@ -1,6 +1,9 @@
 package view
 
-import "ctrie/api"
+import (
+	"ctrie/api"
+	"ctrie/look"
+)
 
 // traversal is a traversal of a trie in a proper state.
 type traversal struct {
@@ -17,7 +20,7 @@ func visit(s api.State, t api.Trie) ([]api.Ref, api.Errno) {
 	if !proper(s) {
 		return nil, api.ErrInvalid
 	}
-	r, ok := root(s, t)
+	r, ok := look.Root(s, t)
 	if !ok {
 		return nil, api.ErrInvalid
 	}
@@ -35,12 +38,12 @@ func (v *traversal) below(in api.Ref, level int) bool {
 		return false
 	}
 	v.seen[in] = true
-	m, ok := mainNode(v.state, in)
+	m, ok := look.Main(v.state, in)
 	if !ok {
 		return false
 	}
 	v.visited = append(v.visited, in)
-	n := nodeAt(v.state, m)
+	n := look.Node(v.state, m)
 	if n.Kind != api.KindC {
 		v.visited = append(v.visited, m)
 		return true
@@ -57,7 +60,7 @@ func (v *traversal) below(in api.Ref, level int) bool {
 // branch visits a branch of the main node of an I-node of a level, and tells
 // whether it, and all below it, can be visited.
 func (v *traversal) branch(b api.Ref, level int) bool {
-	switch nodeAt(v.state, b).Kind {
+	switch look.Node(v.state, b).Kind {
 	case api.KindS:
 		v.visited = append(v.visited, b)
 		return true

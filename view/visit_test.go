@@ -14,6 +14,7 @@ import (
 	"ctrie/dual"
 	"ctrie/keyhash"
 	"ctrie/node"
+	"ctrie/statetest"
 	"ctrie/tomb"
 	"ctrie/view"
 )
@@ -21,7 +22,7 @@ import (
 // checkVisit reports an error if Contents does not return the pairs and Inner not the I-nodes, each time.
 func checkVisit(t *testing.T, s api.State, x api.Trie, pairs []api.Pair, inner []api.Ref) {
 	t.Helper()
-	before := copied(s)
+	before := statetest.Copied(s)
 	for range 2 {
 		if got, e := view.Contents(s, x); e != api.OK || !slices.Equal(got, pairs) {
 			t.Fatalf("Contents of %+v are %v, %d, want %v", x, got, e, pairs)
@@ -31,7 +32,7 @@ func checkVisit(t *testing.T, s api.State, x api.Trie, pairs []api.Pair, inner [
 		}
 		x.ReadOnly = !x.ReadOnly
 	}
-	if !sameState(s, before) {
+	if !statetest.Same(s, before) {
 		t.Fatalf("the state is changed to %+v, from %+v", s, before)
 	}
 }
@@ -39,7 +40,7 @@ func checkVisit(t *testing.T, s api.State, x api.Trie, pairs []api.Pair, inner [
 // checkInvalid reports an error if Contents or Inner does not return ErrInvalid and nothing else, each time.
 func checkInvalid(t *testing.T, s api.State, x api.Trie) {
 	t.Helper()
-	before := copied(s)
+	before := statetest.Copied(s)
 	for range 2 {
 		if got, e := view.Contents(s, x); e != api.ErrInvalid || len(got) != 0 {
 			t.Fatalf("Contents of %+v are %v, %d, want ErrInvalid", x, got, e)
@@ -49,7 +50,7 @@ func checkInvalid(t *testing.T, s api.State, x api.Trie) {
 		}
 		x.ReadOnly = !x.ReadOnly
 	}
-	if !sameState(s, before) {
+	if !statetest.Same(s, before) {
 		t.Fatalf("the state is changed to %+v, from %+v", s, before)
 	}
 }
